@@ -53,4 +53,6 @@ class Width:
         return bool(self._number != 0)
 
     def __str__(self):
-        return "endless" if self._number is None else str(number_text(self._number))
+        if self._number is None:
+            return "endless"
+        return str(number_text(self._number))

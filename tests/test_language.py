@@ -181,6 +181,16 @@ class LanguageTest(unittest.TestCase):
         for path, node in nodes(ast.ClassDef):
             self.check(not node.decorator_list and ast.get_docstring(node), path, node, "L5")
 
+    def test_returns_of_double_underscore_methods(self):
+        forms = {"__str__": ("str", "repr"), "__repr__": ("str", "repr"), "__len__": ("len",)}
+        for path, node in nodes(ast.FunctionDef):
+            if node.name in forms:
+                self.check(isinstance(node.body[-1], ast.Return), path, node, "L28")
+                for back in [part for part in ast.walk(node) if isinstance(part, ast.Return)]:
+                    plain = isinstance(back.value, (ast.Constant, ast.JoinedStr)) or called(back.value) in forms[node.name]
+                    joined = isinstance(back.value, ast.Call) and ast.unparse(back.value.func).endswith("'.join")
+                    self.check(plain or (joined and node.name != "__len__"), path, back, "L28")
+
     def test_methods_of_builtin_values(self):
         own = {node.name for _, node in nodes(ast.FunctionDef)}
         for path, node in nodes(ast.Call):
