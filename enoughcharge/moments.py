@@ -42,6 +42,11 @@ def check_moment(program, moment):
 def steps_for(program, moment):
     """The set of the steps that are possible at the moment."""
     check_moment(program, moment)
+    return possible_steps(program, moment)
+
+
+def possible_steps(program, moment):
+    """The set of the steps that are possible at the moment, without any check."""
     instruction = program[1][moment[1]]
     if instruction[0] == "end":
         return ()
@@ -130,7 +135,13 @@ def is_over(program, moment):
 
 def answer_of(program, moment):
     """The answer of the moment, None if it is not over."""
-    if not is_over(program, moment):
+    check_moment(program, moment)
+    return answered(program, moment)
+
+
+def answered(program, moment):
+    """The answer of the moment, None if it is not over, without any check."""
+    if program[1][moment[1]][0] != "end":
         return None
     table = table_of(program[0], moment[2])
     return tuple([table[name] for name in program[2]])

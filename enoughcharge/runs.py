@@ -35,6 +35,11 @@ def legs_of(program, made):
     """For each stretch of a run, the triple of its waking, its last moment and what is spent then."""
     if not is_run(program, made):
         raise NotUsable("made", -1)
+    return legs_along(program, made)
+
+
+def legs_along(program, made):
+    """What legs_of returns, without any check."""
     legs = []
     waking = first_moment(program)
     for stretch in made:

@@ -5,9 +5,14 @@ from enoughcharge.moments import answer_of, first_moment, moment_after_step, ste
 from enoughcharge.programclasses import Dearer, Program, Unmarked
 from enoughcharge.programreadings import instruction_read, program_read
 from enoughcharge.pumped import lets_pumped, pumped_out
+from enoughcharge.rings import falls_end, least_charge, ring_run, ring_width
+from enoughcharge.runclasses import Run
 from enoughcharge.runs import is_ring, lets_run, moment_after, spent_after, wakings_of, width_of
+from enoughcharge.stories import story_of
+from enoughcharge.stretches import falls_from, most_spent
+from enoughcharge.walkers import Walker
 from enoughcharge.widths import Width
-from tests.samples import COUNT, LOOP, TWICE, Checks
+from tests.samples import COUNT, LATE, LOOP, NOTHING, TWICE, Checks
 
 MADE = (((), ()), ((),))
 
@@ -45,3 +50,26 @@ class ExampleTest(Checks):
         got = [Width(9) <= Width(10), Width(10) >= Width(), (Width(3) | Width()).number, str(2 + Width(3)),
                str(Width() + 1), bool(Width(0))]
         self.same(got, [True, False, None, "5", "endless", False])
+
+    def test_stories(self):
+        self.same(list(story_of(COUNT, MADE)), [(0, 0), (1, 1), (2, 3), (0, 0), (1, 1)])
+
+    def test_runclasses_and_walkers(self):
+        got = [str(Run(COUNT, MADE)), Run(COUNT, MADE[:1]) <= Run(COUNT, MADE), Run.read(COUNT, ". . | -").width_now == Width(3)]
+        self.same(got, [". . | .", True, True])
+        walker = Walker(COUNT)
+        got = [walker.step()[1], walker.tried((), "fall")[2], walker.fall()[1], walker.undo(), walker.made]
+        self.same(got, [1, (1,), 0, "fall", (((),),)])
+
+    def test_stretches(self):
+        start = first_moment(COUNT)
+        self.same(most_spent(COUNT, start)[:4], (
+            (((0, ()), 0, (0,)), 0), (((0, ()), 0, (1,)), 4), (((0, ()), 0, (2,)), 8), (((0, ()), 1, (0,)), 1),
+        ))
+        self.same(falls_from(COUNT, start), ((((0, ()), 0, (0,)), 2), (((0, ()), 0, (1,)), 6), (((0, ()), 0, (2,)), 8)))
+        self.same(most_spent(LOOP, first_moment(LOOP)), ((((0, ()), 0, ()), "endless"),))
+
+    def test_rings(self):
+        self.same([ring_width(COUNT), least_charge(COUNT), falls_end(COUNT, 2), falls_end(COUNT, 3)], [2, 3, False, True])
+        self.same([least_charge(TWICE), least_charge(LATE), ring_width(LOOP), least_charge(LOOP)], [6, 7, "endless", None])
+        self.same([ring_width(NOTHING), ring_run(NOTHING), least_charge(NOTHING)], [None, None, 0])

@@ -108,7 +108,7 @@ class LanguageTest(unittest.TestCase):
     def test_statements_and_expressions(self):
         for path, node in nodes(ast.stmt):
             self.check(isinstance(node, STATEMENTS), path, node, "L6, or a += beside operators")
-        for path, node in nodes((ast.Div, ast.Lambda, ast.Yield, ast.YieldFrom, ast.GeneratorExp, ast.Await, ast.NamedExpr)):
+        for path, node in nodes((ast.Div, ast.Lambda, ast.YieldFrom, ast.GeneratorExp, ast.Await, ast.NamedExpr)):
             self.check(False, path, node, "L7")
         for path, node in nodes(ast.Constant):
             self.check(not isinstance(node.value, (float, complex, bytes)), path, node, "L7")
@@ -171,7 +171,8 @@ class LanguageTest(unittest.TestCase):
     def test_functions(self):
         for path, node in nodes(ast.FunctionDef):
             marks = [ast.unparse(mark) for mark in node.decorator_list]
-            self.check(set(marks) <= {"property", "staticmethod", "classmethod"} and len(marks) <= 1, path, node, "L4")
+            known = {"property", "staticmethod", "classmethod", f"{node.name}.setter"}
+            self.check(set(marks) <= known and len(marks) <= 1, path, node, "L4")
             for default in node.args.defaults + [given for given in node.args.kw_defaults if given]:
                 ast.literal_eval(default)
             if node.name.startswith("__"):
@@ -190,6 +191,16 @@ class LanguageTest(unittest.TestCase):
                     plain = isinstance(back.value, (ast.Constant, ast.JoinedStr)) or called(back.value) in forms[node.name]
                     joined = isinstance(back.value, ast.Call) and ast.unparse(back.value.func).endswith("'.join")
                     self.check(plain or (joined and node.name != "__len__"), path, back, "L28")
+
+    def test_generators(self):
+        for path, node in nodes(ast.FunctionDef):
+            yields = [part for part in ast.walk(node) if isinstance(part, ast.Yield)]
+            plain = [part.value for part in ast.walk(node) if isinstance(part, ast.Expr)]
+            self.check(not yields or node in TREES[path].body, path, node, "L23")
+            for part in yields:
+                self.check(part in plain, path, part, "L23")
+            for part in ast.walk(node):
+                self.check(not yields or not isinstance(part, (ast.Try, ast.With)), path, part, "L23")
 
     def test_methods_of_builtin_values(self):
         own = {node.name for _, node in nodes(ast.FunctionDef)}

@@ -1,0 +1,81 @@
+"""The wakings of a program and the falls between them, as a map of ways."""
+
+from enoughcharge.moments import first_moment, possible_steps, stepped, woken
+from enoughcharge.programparts import cost_at
+from enoughcharge.ways import ENDLESS, ways_from
+
+
+class FallMap:
+    """All wakings that can come with a charge.
+
+    A fall is a triple (waking, moment, width): it comes at the moment, behind steps from the waking, and its width is
+    the greatest one of all falls from this waking to the same next one.
+    """
+
+    def __init__(self, first, roads, falls):
+        self.first = first
+        # The map of the steps from all moments that can come with the charge.
+        self.roads = roads
+        # The map of the falls that can come with the charge; each of its legs costs 1.
+        self.falls = falls
+
+
+def fall_map(program, charge):
+    """The FallMap of a program with a charge."""
+    first = first_moment(program)
+    roads = {}
+    falls = {}
+    line = [first]
+    while line:
+        waking = line.pop()
+        if waking not in falls:
+            fresh = [waking]
+            while fresh:
+                moment = fresh.pop()
+                if moment not in roads:
+                    roads[moment] = steps_on(program, moment)
+                    fresh.extend([leg[1] for leg in roads[moment]])
+            falls[waking] = falls_on(program, ways_from(roads, waking), charge)
+            line.extend([leg[1] for leg in falls[waking]])
+    return FallMap(first, roads, falls)
+
+
+def steps_on(program, moment):
+    """The legs of the steps that are possible at a moment."""
+    due = cost_at(program, moment[1])
+    return [(step, stepped(program, moment, step), due) for step in possible_steps(program, moment)]
+
+
+def step_map(program, moment):
+    """The map of the steps from all moments to which steps lead from this one, itself included."""
+    roads = {}
+    line = [moment]
+    while line:
+        now = line.pop()
+        if now not in roads:
+            roads[now] = steps_on(program, now)
+            line.extend([leg[1] for leg in roads[now]])
+    return roads
+
+
+def falls_on(program, ways, charge):
+    """The legs of the widest falls from the start of these ways to each next waking, as far as they can come."""
+    widest = {}
+    for moment in ways.spent:
+        due = cost_at(program, moment[1])
+        if due > 0:
+            width = fall_width(ways.spent[moment], due)
+            after = woken(program, moment)
+            if is_wide(width, charge) and (after not in widest or not is_wide(widest[after][2], width)):
+                widest[after] = (ways.start, moment, width)
+    return [(widest[after], after, 1) for after in widest]
+
+
+def fall_width(spent, due):
+    """The width of a fall where so much is spent and due; what is spent may be endless."""
+    return ENDLESS if spent == ENDLESS else spent + due - 1
+
+
+def is_wide(width, least):
+    """Whether a width is at least this one; either may be endless."""
+    return width == ENDLESS or (least != ENDLESS and width >= least)

@@ -1,0 +1,49 @@
+"""Rings in maps of falls."""
+
+from enoughcharge.fallmaps import is_wide
+from enoughcharge.ways import ENDLESS, endless_node, round_way, ways_from
+
+
+def ring_in(falls, first):
+    """The falls of any ring in a map of falls, None if there is none."""
+    ways = ways_from(falls, first)
+    waking = endless_node(ways)
+    if waking is None:
+        return None
+    return ring_at(ways, waking)
+
+
+def ring_at(ways, waking):
+    """The falls of a ring among those ways of falls on which this waking can come any number of times."""
+    ahead, turn, _, _ = round_way(ways, waking)
+    return ahead + turn
+
+
+def widest_ring(fallmap):
+    """The pair of the ring width and the falls of a ring of this width; a pair of None without a ring."""
+    widths = widths_in(fallmap.falls)
+    least = 0
+    most = len(widths)
+    # With each of the widths before index least a ring can come, with none from index most on.
+    while least < most:
+        middle = (least + most) // 2
+        if ring_in(wide_falls(fallmap.falls, widths[middle]), fallmap.first) is None:
+            most = middle
+        else:
+            least = middle + 1
+    if least == 0:
+        return (None, None)
+    width = widths[least - 1]
+    return (width, ring_in(wide_falls(fallmap.falls, width), fallmap.first))
+
+
+def widths_in(falls):
+    """The list of the widths of all falls of a map, ascending, an endless one last."""
+    widths = {leg[0][2]: True for waking in falls for leg in falls[waking]}
+    numbers = [int(width) for width in widths if width != ENDLESS]
+    return sorted(set(numbers)) + [width for width in widths if width == ENDLESS]
+
+
+def wide_falls(falls, least):
+    """The map of those falls that have at least this width."""
+    return {waking: [leg for leg in falls[waking] if is_wide(leg[0][2], least)] for waking in falls}
