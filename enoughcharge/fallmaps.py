@@ -1,8 +1,9 @@
 """The wakings of a program and the falls between them, as a map of ways."""
 
+from enoughcharge.charges import fall_width, is_wide
 from enoughcharge.moments import first_moment, possible_steps, stepped, woken
 from enoughcharge.programparts import cost_at
-from enoughcharge.ways import ENDLESS, ways_from
+from enoughcharge.ways import labels_back, shortest_from, ways_from
 
 
 class FallMap:
@@ -71,11 +72,6 @@ def falls_on(program, ways, charge):
     return [(widest[after], after, 1) for after in widest]
 
 
-def fall_width(spent, due):
-    """The width of a fall where so much is spent and due; what is spent may be endless."""
-    return ENDLESS if spent == ENDLESS else spent + due - 1
-
-
-def is_wide(width, least):
-    """Whether a width is at least this one; either may be endless."""
-    return width == ENDLESS or (least != ENDLESS and width >= least)
+def falls_to(fallmap, waking):
+    """The falls of a shortest way to a waking that can come."""
+    return labels_back(shortest_from(fallmap.falls, fallmap.first), fallmap.first, waking)

@@ -1,8 +1,7 @@
 """The widest ring of a program, and the least charge with which no ring can come."""
 
-from enoughcharge.errors import NotUsable
+from enoughcharge.charges import check_charge
 from enoughcharge.fallmaps import fall_map
-from enoughcharge.kinds import is_number
 from enoughcharge.ringways import ring_in, widest_ring
 from enoughcharge.shownruns import shown_pumped, shown_run
 from enoughcharge.ways import ENDLESS
@@ -36,7 +35,6 @@ def least_charge(program):
 
 def falls_end(program, charge):
     """Whether no ring can come with the charge."""
-    if not is_number(charge):
-        raise NotUsable("charge", -1)
+    check_charge(charge)
     fallmap = fall_map(program, charge)
     return ring_in(fallmap.falls, fallmap.first) is None

@@ -1,6 +1,7 @@
 """Rings in maps of falls."""
 
-from enoughcharge.fallmaps import is_wide
+from enoughcharge.charges import is_wide
+from enoughcharge.shownruns import shown_run
 from enoughcharge.ways import ENDLESS, endless_node, round_way, ways_from
 
 
@@ -17,6 +18,16 @@ def ring_at(ways, waking):
     """The falls of a ring among those ways of falls on which this waking can come any number of times."""
     ahead, turn, _, _ = round_way(ways, waking)
     return ahead + turn
+
+
+def shown_ring(fallmap, ways, charge):
+    """A run that is a ring and can come with the charge of this FallMap, by all ways of its falls from the first
+    moment; None if there is none.
+    """
+    waking = endless_node(ways)
+    if waking is None:
+        return None
+    return shown_run(fallmap.roads, ring_at(ways, waking), charge, ())
 
 
 def widest_ring(fallmap):

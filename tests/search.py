@@ -129,11 +129,30 @@ def behind(legs, start):
     return found
 
 
+def busy_program(pick):
+    """A program that counts, so that its falls often lead to new wakings, and that mostly comes to an end."""
+    cells = [("a", pick.choice(("kept", "kept", "saved")), pick.randrange(1, 4), 0), ("b", pick.choice(("quick", "kept")), 2, 0)]
+    code = []
+    size = pick.randrange(2, 8)
+    for at in range(size):
+        word = pick.choice(("set", "set", "set", "set", "unless", "unless", "mark", "off", "ask", "jump"))
+        name = pick.choice("ab")
+        cost = pick.randrange(1, 10)
+        test = (pick.choice(("less", "equal")), name, pick.randrange(3))
+        parts = {
+            "set": (name, ("plus", name, pick.choice((1, 1, "a", "b")))), "unless": (test, pick.choice((size, size, pick.randrange(size)))),
+            "ask": (name,), "jump": (pick.choice((min(at + 2, size), size, pick.randrange(size))),),
+        }
+        code.append((word, *parts.get(word, ()), cost))
+    told = tuple(cell[0] for cell in cells if cell[1] != "quick")
+    return (tuple(cells), tuple(code) + (("end",),), told)
+
+
 def small_searches(seed, many, most=60):
     """Searches of random programs with few moments."""
     pick = random.Random(seed)
     while many:
-        search = Search(random_program(pick), most)
+        search = Search(pick.choice((random_program, busy_program, busy_program))(pick), most)
         if len(search.steps) <= most:
             many -= 1
             yield search

@@ -1,10 +1,17 @@
 """The examples of the document, as they stand."""
 
+from enoughcharge.answers import answer_width, answers_at, least_right, right_answers, run_to
 from enoughcharge.errors import InvalidPaper, InvalidText
+from enoughcharge.loopchecker import lets_no_loop
+from enoughcharge.loops import has_own_loop, order_paper, own_loop
 from enoughcharge.moments import answer_of, first_moment, moment_after_step, steps_for, waking_of
+from enoughcharge.numbering import most_falls, numbering
+from enoughcharge.onchecker import lets_on
+from enoughcharge.onpapers import on_paper
 from enoughcharge.programclasses import Dearer, Program, Unmarked
 from enoughcharge.programreadings import instruction_read, program_read
 from enoughcharge.pumped import lets_pumped, pumped_out
+from enoughcharge.rightpapers import right_paper
 from enoughcharge.rings import falls_end, least_charge, ring_run, ring_width
 from enoughcharge.runclasses import Run
 from enoughcharge.runs import is_ring, lets_run, moment_after, spent_after, wakings_of, width_of
@@ -12,6 +19,7 @@ from enoughcharge.stories import story_of
 from enoughcharge.stretches import falls_from, most_spent
 from enoughcharge.walkers import Walker
 from enoughcharge.widths import Width
+from tests.papers import right_faults
 from tests.samples import COUNT, LATE, LOOP, NOTHING, TWICE, Checks
 
 MADE = (((), ()), ((),))
@@ -73,3 +81,32 @@ class ExampleTest(Checks):
         self.same([ring_width(COUNT), least_charge(COUNT), falls_end(COUNT, 2), falls_end(COUNT, 3)], [2, 3, False, True])
         self.same([least_charge(TWICE), least_charge(LATE), ring_width(LOOP), least_charge(LOOP)], [6, 7, "endless", None])
         self.same([ring_width(NOTHING), ring_run(NOTHING), least_charge(NOTHING)], [None, None, 0])
+
+    def test_onchecker(self):
+        self.same([lets_on(COUNT, 2, ("ring", (((),), ()))), lets_on(COUNT, 3, on_paper(COUNT, 3))], [False, True])
+        self.refused(InvalidPaper, {"word": "width", "at": -1}, lets_on, COUNT, 3, ("ring", (((),), ())))
+        rows = ((((0, ()), 0, ()), 0, ((((0, ()), 0, ()), 9),)),)
+        self.refused(InvalidPaper, {"word": "fall", "at": (0, 0)}, lets_on, LOOP, 9, ("numbers", rows))
+
+    def test_numbering(self):
+        self.same([most_falls(COUNT, charge) for charge in (2, 3, 4, 5, 8, 9)], [None, 2, 2, 1, 1, 0])
+        self.same(numbering(COUNT, 4), ((((0, ()), 0, (0,)), 2), (((0, ()), 0, (1,)), 1), (((0, ()), 0, (2,)), 0)))
+
+    def test_loops(self):
+        self.same([has_own_loop(COUNT, 0), own_loop(LOOP, 7)[1][0], has_own_loop(LOOP, 99)], [False, (), True])
+        self.same([lets_no_loop(COUNT, 3, order_paper(COUNT, 3)) > 2, order_paper(LOOP, 3)], [True, None])
+        rows = ((((0, ()), 0, ()), ((((0, ()), 0, ()), 3, 0),)),)
+        self.refused(InvalidPaper, {"word": "order", "at": (0, 0)}, lets_no_loop, LOOP, 3, rows)
+
+    def test_answers(self):
+        got = [right_answers(TWICE), answers_at(TWICE, 5), answers_at(TWICE, 6), answer_width(TWICE, (2,)), answer_width(TWICE, (1,))]
+        self.same(got, [((1,),), ((0,), (1,), (2,), (3,)), ((1,),), 5, "endless"])
+        got = [width_of(TWICE, run_to(TWICE, (2,))), run_to(TWICE, (1,)), run_to(COUNT, (0,)), least_right(TWICE)]
+        self.same(got, [5, (((), ()),), None, 6])
+
+    def test_rightpapers(self):
+        table = ((((0, ()), 0, (0, 0)), 0), (((0, ()), 1, (0, 1)), 1), (((0, ()), 2, (1, 1)), 6))
+        paper = ("right", ((table[0][0], table),), (((1,), ((), ())),))
+        self.same(list(right_faults(TWICE, 6, paper)), [])
+        self.same(next(right_faults(TWICE, 5, paper)), ("fall", (0, 1)))
+        self.same([right_paper(TWICE, charge)[0] for charge in (6, 5)], ["right", "wrong"])

@@ -5,7 +5,7 @@ from enoughcharge.kinds import is_number
 from enoughcharge.onpapers import on_paper
 from enoughcharge.rings import falls_end, least_charge, ring_width
 from enoughcharge.runs import is_ring, lets_run, wakings_of, width_of
-from tests.papers import numbers_fault
+from tests.papers import on_faults
 from tests.samples import ANYTHING, COUNT, LATE, LOOP, MIXED, NOTHING, SIXTY, TWICE, Checks
 from tests.search import small_searches
 
@@ -26,7 +26,7 @@ class PaperChecks(Checks):
         else:
             self.same(word, "numbers")
             self.has_kinds(thing)
-            self.same(numbers_fault(program, charge, thing), None)
+            self.same(list(on_faults(program, charge, thing)), [])
         return word
 
     def has_kinds(self, rows):
