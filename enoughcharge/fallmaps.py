@@ -25,6 +25,7 @@ def fall_map(program, charge):
     """The FallMap of a program with a charge."""
     first = first_moment(program)
     roads = {}
+    fallen = {}
     falls = {}
     line = [first]
     while line:
@@ -35,8 +36,9 @@ def fall_map(program, charge):
                 moment = fresh.pop()
                 if moment not in roads:
                     roads[moment] = steps_on(program, moment)
+                    fallen[moment] = fall_at(program, moment)
                     fresh.extend([leg[1] for leg in roads[moment]])
-            falls[waking] = falls_on(program, ways_from(roads, waking), charge)
+            falls[waking] = falls_on(fallen, ways_from(roads, waking), charge)
             line.extend([leg[1] for leg in falls[waking]])
     return FallMap(first, roads, falls)
 
@@ -59,14 +61,21 @@ def step_map(program, moment):
     return roads
 
 
-def falls_on(program, ways, charge):
-    """The legs of the widest falls from the start of these ways to each next waking, as far as they can come."""
+def fall_at(program, moment):
+    """The pair of the cost that is due at a moment and the waking behind a fall; None where no cost is due."""
+    due = cost_at(program, moment[1])
+    return (due, woken(program, moment)) if due > 0 else None
+
+
+def falls_on(fallen, ways, charge):
+    """The legs of the widest falls from the start of these ways to each next waking, as far as they can come; fallen
+    has what fall_at returns for each moment.
+    """
     widest = {}
     for moment in ways.spent:
-        due = cost_at(program, moment[1])
-        if due > 0:
+        if fallen[moment] is not None:
+            due, after = fallen[moment]
             width = fall_width(ways.spent[moment], due)
-            after = woken(program, moment)
             if is_wide(width, charge) and (after not in widest or not is_wide(widest[after][2], width)):
                 widest[after] = (ways.start, moment, width)
     return [(widest[after], after, 1) for after in widest]

@@ -3,20 +3,17 @@
 from enoughcharge.charges import check_charge
 from enoughcharge.errors import NeverEnough
 from enoughcharge.fallmaps import fall_map
-from enoughcharge.ringways import shown_ring
+from enoughcharge.ringways import fall_numbers, shown_ring
 from enoughcharge.shownruns import shown_run
-from enoughcharge.ways import endless_node, heights, ways_from
 
 
 def numbering(program, charge):
     """The set of the pairs (waking, number) of all wakings that can come with the charge; NeverEnough with a ring."""
     check_charge(charge)
     fallmap = fall_map(program, charge)
-    ways = ways_from(fallmap.falls, fallmap.first)
-    ring = shown_ring(fallmap, ways, charge)
-    if ring is not None:
-        raise NeverEnough(ring)
-    numbers = heights(fallmap.falls, ways.order)
+    numbers = fall_numbers(fallmap)
+    if numbers is None:
+        raise NeverEnough(shown_ring(fallmap, charge))
     return tuple([(waking, numbers[waking]) for waking in sorted(set(numbers))])
 
 
@@ -41,14 +38,6 @@ def falling_run(program, charge):
         falls.append(deepest_leg(fallmap.falls[waking], numbers))
         waking = falls[-1][1]
     return shown_run(fallmap.roads, [leg[0] for leg in falls], charge, ())
-
-
-def fall_numbers(fallmap):
-    """The most falls that can still come behind each waking, None if there is a ring."""
-    ways = ways_from(fallmap.falls, fallmap.first)
-    if endless_node(ways) is not None:
-        return None
-    return heights(fallmap.falls, ways.order)
 
 
 def deepest_leg(legs, numbers):

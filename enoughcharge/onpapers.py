@@ -2,19 +2,17 @@
 
 from enoughcharge.charges import bound_of, check_charge
 from enoughcharge.fallmaps import fall_map
-from enoughcharge.ringways import shown_ring
-from enoughcharge.ways import heights, ways_from
+from enoughcharge.ringways import fall_numbers, shown_ring
+from enoughcharge.ways import ways_from
 
 
 def on_paper(program, charge):
     """An on paper for the program and the charge."""
     check_charge(charge)
     fallmap = fall_map(program, charge)
-    ways = ways_from(fallmap.falls, fallmap.first)
-    ring = shown_ring(fallmap, ways, charge)
-    if ring is not None:
-        return ("ring", ring)
-    numbers = heights(fallmap.falls, ways.order)
+    numbers = fall_numbers(fallmap)
+    if numbers is None:
+        return ("ring", shown_ring(fallmap, charge))
     rows = [(waking, numbers[waking], bound_table(fallmap.roads, waking, charge)) for waking in sorted(set(numbers))]
     return ("numbers", tuple(rows))
 

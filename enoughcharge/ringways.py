@@ -1,8 +1,8 @@
-"""Rings in maps of falls."""
+"""Rings in maps of falls, and the numbers of falls where there is none."""
 
 from enoughcharge.charges import is_wide
 from enoughcharge.shownruns import shown_run
-from enoughcharge.ways import ENDLESS, endless_node, round_way, ways_from
+from enoughcharge.ways import ENDLESS, endless_node, heights, round_way, ways_from
 
 
 def ring_in(falls, first):
@@ -11,23 +11,21 @@ def ring_in(falls, first):
     waking = endless_node(ways)
     if waking is None:
         return None
-    return ring_at(ways, waking)
-
-
-def ring_at(ways, waking):
-    """The falls of a ring among those ways of falls on which this waking can come any number of times."""
-    ahead, turn, _, _ = round_way(ways, waking)
+    ahead, turn = round_way(ways, waking)[:2]
     return ahead + turn
 
 
-def shown_ring(fallmap, ways, charge):
-    """A run that is a ring and can come with the charge of this FallMap, by all ways of its falls from the first
-    moment; None if there is none.
-    """
-    waking = endless_node(ways)
-    if waking is None:
+def shown_ring(fallmap, charge):
+    """A run that is a ring and can come with the charge of this FallMap, in which there is a ring."""
+    return shown_run(fallmap.roads, ring_in(fallmap.falls, fallmap.first), charge, ())
+
+
+def fall_numbers(fallmap):
+    """The most falls that can still come behind each waking, None if there is a ring."""
+    ways = ways_from(fallmap.falls, fallmap.first)
+    if endless_node(ways) is not None:
         return None
-    return shown_run(fallmap.roads, ring_at(ways, waking), charge, ())
+    return heights(fallmap.falls, ways.order)
 
 
 def widest_ring(fallmap):

@@ -1,7 +1,7 @@
 """The most that can be spent without a fall."""
 
 from enoughcharge.errors import NotUsable
-from enoughcharge.fallmaps import falls_on, step_map
+from enoughcharge.fallmaps import fall_at, falls_on, step_map
 from enoughcharge.moments import is_moment, woken
 from enoughcharge.ways import ways_from
 
@@ -14,7 +14,8 @@ def most_spent(program, waking):
 
 def falls_from(program, waking):
     """The set of the pairs (waking, width) for all wakings to which a fall leads, behind steps from a waking."""
-    legs = falls_on(program, checked_ways(program, waking), 0)
+    ways = checked_ways(program, waking)
+    legs = falls_on({moment: fall_at(program, moment) for moment in ways.spent}, ways, 0)
     widths = {after: fall[2] for fall, after, _ in legs}
     return tuple([(after, widths[after]) for after in sorted(set(widths))])
 

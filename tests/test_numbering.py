@@ -17,6 +17,14 @@ STEPS = (
     (),
 )
 
+# The outside answers how far n counts down; each fall that can come with 11 leaves it there.
+DOWN = (
+    (("n", "kept", 3, 0),),
+    (("unless", ("equal", "n", 0), 4, 1), ("ask", "n", 1), ("unless", ("less", 0, "n"), 7, 1), ("mark", 9),
+     ("unless", ("less", 1, "n"), 7, 1), ("set", "n", ("minus", "n", 1), 2), ("jump", 4, 9), ("end",)),
+    (),
+)
+
 
 class NumberChecks(Checks):
     def told(self, program, charge, most):
@@ -81,6 +89,15 @@ class NumberingTest(NumberChecks):
         self.same(ring_width(STEPS), 4)
         for charge, most in enumerate([None] * 5 + [3] * 8 + [2] * 2 + [1] * 20 + [0] * 5):
             self.told(STEPS, charge, most)
+
+    def test_the_longest_way_of_falls(self):
+        wakings = [((0, ()), 0, (value,)) for value in (0, 3, 2, 1)]
+        self.told(DOWN, 11, 3)
+        self.same(wakings_of(DOWN, falling_run(DOWN, 11)), tuple(wakings))
+        numbers = dict(numbering(DOWN, 11))
+        self.same([numbers[waking] for waking in wakings], [3, 2, 1, 0])
+        for charge in range(0, 40):
+            self.told(DOWN, charge, most_falls(DOWN, charge))
 
     def test_wakings_that_only_other_charges_reach_have_no_number(self):
         self.assertNotIn(ONE, dict(numbering(COUNT, 7)))
