@@ -5,7 +5,7 @@ from enoughcharge.errors import NotUsable
 from enoughcharge.fallmaps import fall_map, step_map
 from enoughcharge.moments import answered, first_moment
 from enoughcharge.programparts import are_values, cell_of
-from enoughcharge.reaches import reach_of, shown_answer
+from enoughcharge.reaches import is_right, reach_of, shown_answer
 from enoughcharge.ways import ENDLESS
 
 
@@ -49,8 +49,7 @@ def check_answer(program, answer):
 def least_right(program):
     """The least charge with which only right answers can come, None if there is none."""
     reach = reach_of(program)
-    first = reach.fallmap.first
-    widths = [reach.answers[answer][0] for answer in reach.answers if reach.answers[answer][1] != first]
+    widths = [reach.answers[answer][0] for answer in reach.answers if not is_right(reach, answer)]
     if ENDLESS in widths:
         return None
     return max([int(width + 1) for width in widths], default=0)

@@ -21,6 +21,16 @@ def is_wide(width, least):
     return width == ENDLESS or (least != ENDLESS and width >= least)
 
 
+def can_come(width, charge):
+    """Whether what has this width, None if it never comes, can come with a charge, a number or endless."""
+    return width is not None and is_wide(width, charge)
+
+
+def is_within(width, other):
+    """Whether what has the other width can come with each charge with which what has this one can."""
+    return width is None or can_come(other, width)
+
+
 def bound_of(spent, charge):
     """The lesser of what is spent, which may be endless, and the charge."""
     return charge if spent == ENDLESS else min(int(spent), charge)

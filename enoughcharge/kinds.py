@@ -110,7 +110,7 @@ def is_program(thing):
 
 def is_step(thing):
     """Whether any value is () or a tuple of one number."""
-    return isinstance(thing, tuple) and len(thing) <= 1 and all([is_number(value) for value in thing])
+    return is_tuple_of_numbers(thing) and len(thing) <= 1
 
 
 def is_stretch(thing):
@@ -121,6 +121,11 @@ def is_stretch(thing):
 def is_tuple_of_tuples(thing):
     """Whether any value is a tuple that contains only tuples."""
     return isinstance(thing, tuple) and all([isinstance(part, tuple) for part in thing])
+
+
+def is_tuple_of_numbers(thing):
+    """Whether any value is a tuple that contains only numbers."""
+    return isinstance(thing, tuple) and all([is_number(part) for part in thing])
 
 
 def is_ascending(things):

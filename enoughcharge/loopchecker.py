@@ -3,7 +3,7 @@
 from enoughcharge.charges import check_charge
 from enoughcharge.errors import InvalidPaper
 from enoughcharge.kinds import is_tuple_of_tuples
-from enoughcharge.tables import check_tables, is_table, moments_next, steps_hold, waking_behind
+from enoughcharge.tables import check_pair, check_tables, is_table, moments_next
 
 
 def lets_no_loop(program, charge, thing):
@@ -23,11 +23,7 @@ def check_order_table(program, charge, wakings, at, table):
     """Raise the first error of the triples of table at."""
     bounds = {moment: bound for moment, bound, _ in table}
     numbers = {moment: number for moment, _, number in table}
-    for index, (moment, bound, number) in enumerate(table):
-        if not steps_hold(program, charge, bounds, moment):
-            raise InvalidPaper("step", (at, index))
-        after = waking_behind(program, charge, moment, bound)
-        if after is not None and after not in wakings:
-            raise InvalidPaper("fall", (at, index))
-        if not all([numbers[next_one] < number for next_one in moments_next(program, moment)]):
+    for index, (moment, _, number) in enumerate(table):
+        check_pair(program, charge, bounds, wakings, moment, (at, index))
+        if not all([numbers[after] < number for after in moments_next(program, moment)]):
             raise InvalidPaper("order", (at, index))

@@ -1,7 +1,7 @@
 """Changes of programs: each function returns the changed program."""
 
 from enoughcharge.errors import NotUsable
-from enoughcharge.kinds import KINDS, is_ascending, is_name, is_name_set, is_number, parts_of
+from enoughcharge.kinds import KINDS, is_ascending, is_name, is_name_set, is_number, is_tuple_of_numbers, parts_of
 from enoughcharge.programchecker import lets_program
 from enoughcharge.programparts import cell_index, cell_names, is_place, marks_of
 
@@ -66,10 +66,8 @@ def with_marks(program, places):
 
 def is_mark_set(program, thing):
     """Whether any value is a set of places of marks, on or off."""
-    if not isinstance(thing, tuple) or not all([is_number(place) for place in thing]):
-        return False
     marks = marks_of(program)
-    return all([place in marks for place in thing]) and is_ascending(thing)
+    return is_tuple_of_numbers(thing) and all([place in marks for place in thing]) and is_ascending(thing)
 
 
 def with_costs(program, more):

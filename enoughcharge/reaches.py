@@ -71,6 +71,11 @@ def falls_by_width(falls):
     return groups
 
 
+def is_right(reach, answer):
+    """Whether an answer that can come is right."""
+    return reach.answers[answer][1] == reach.fallmap.first
+
+
 def shown_answer(reach, answer):
     """A run, or a pumped run, of the answer width to an answer that can come."""
     width, waking, moment = reach.answers[answer]

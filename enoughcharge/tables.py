@@ -42,6 +42,15 @@ def steps_hold(program, charge, bounds, moment):
     return all([bounds.get(after, -1) >= least for after in moments_next(program, moment)])
 
 
+def check_pair(program, charge, bounds, wakings, moment, at):
+    """Raise the first error of a moment of a table with these bounds, where a fall leads to any of these wakings."""
+    if not steps_hold(program, charge, bounds, moment):
+        raise InvalidPaper("step", at)
+    after = waking_behind(program, charge, moment, bounds[moment])
+    if after is not None and after not in wakings:
+        raise InvalidPaper("fall", at)
+
+
 def moments_next(program, moment):
     """The list of the moments after the possible steps."""
     return [stepped(program, moment, step) for step in possible_steps(program, moment)]

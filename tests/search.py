@@ -1,5 +1,6 @@
 """A search of its own, to compare the package with: it tries out all that can be spent, number by number."""
 
+import functools
 import random
 
 from tests.model import Model, random_program
@@ -115,6 +116,41 @@ class Search:
 
     def right(self):
         return tuple(sorted({self.answers[moment] for moment in self.sums(self.first, 0) if moment in self.answers}))
+
+    def does(self, charge):
+        """Whether no ring can come with the charge, and only right answers can."""
+        return not self.has_ring(charge) and self.answers_at(charge) == self.right()
+
+    def width(self, can):
+        """The greatest charge with which something can come, None if it cannot come with any."""
+        if not can(0):
+            return None
+        if can(self.cap):
+            return ENDLESS
+        low, high = 0, self.cap
+        while high - low > 1:
+            middle = (low + high) // 2
+            low, high = (middle, high) if can(middle) else (low, middle)
+        return low
+
+    def profile(self):
+        """The ring width and the rows of all answers, by trying charges."""
+        answers_at = functools.cache(self.answers_at)
+        right = self.right()
+        rows = tuple((answer, answer in right, self.width(lambda charge, it=answer: it in answers_at(charge))) for answer in answers_at(0))
+        return self.width(functools.cache(self.has_ring)), rows
+
+
+def with_only(program, places):
+    """The program with just these of its marks on."""
+    cells, code, told = program
+    lines = [("mark" if at in places else "off", line[1]) if line[0] in ("mark", "off") else line for at, line in enumerate(code)]
+    return cells, tuple(lines), told
+
+
+def all_sets(things):
+    """All ascending tuples of these things, each bit of a number telling of one of them."""
+    return sorted(tuple(thing for at, thing in enumerate(things) if number >> at & 1) for number in range(1 << len(things)))
 
 
 def behind(legs, start):

@@ -4,23 +4,30 @@ from enoughcharge.answers import answer_width, answers_at, least_right, right_an
 from enoughcharge.errors import InvalidPaper, InvalidText
 from enoughcharge.loopchecker import lets_no_loop
 from enoughcharge.loops import has_own_loop, order_paper, own_loop
+from enoughcharge.markingchecker import lets_marks
+from enoughcharge.markings import doing_sets, least_sets, marks_paper
 from enoughcharge.moments import answer_of, first_moment, moment_after_step, steps_for, waking_of
 from enoughcharge.numbering import most_falls, numbering
 from enoughcharge.onchecker import lets_on
 from enoughcharge.onpapers import on_paper
+from enoughcharge.profileclasses import Profile
+from enoughcharge.profiles import critical_charges, profile
 from enoughcharge.programclasses import Dearer, Program, Unmarked
 from enoughcharge.programreadings import instruction_read, program_read
 from enoughcharge.pumped import lets_pumped, pumped_out
+from enoughcharge.rightchecker import lets_right
 from enoughcharge.rightpapers import right_paper
 from enoughcharge.rings import falls_end, least_charge, ring_run, ring_width
 from enoughcharge.runclasses import Run
 from enoughcharge.runs import is_ring, lets_run, moment_after, spent_after, wakings_of, width_of
+from enoughcharge.savings import saving_sets
 from enoughcharge.stories import story_of
 from enoughcharge.stretches import falls_from, most_spent
 from enoughcharge.walkers import Walker
 from enoughcharge.widths import Width
 from tests.papers import right_faults
 from tests.samples import COUNT, LATE, LOOP, NOTHING, TWICE, Checks
+from tests.test_savings import KEEP
 
 MADE = (((), ()), ((),))
 
@@ -109,4 +116,18 @@ class ExampleTest(Checks):
         paper = ("right", ((table[0][0], table),), (((1,), ((), ())),))
         self.same(list(right_faults(TWICE, 6, paper)), [])
         self.same(next(right_faults(TWICE, 5, paper)), ("fall", (0, 1)))
-        self.same([right_paper(TWICE, charge)[0] for charge in (6, 5)], ["right", "wrong"])
+        got = [lets_right(TWICE, 6, paper), lets_right(TWICE, 6, right_paper(TWICE, 6)), lets_right(TWICE, 5, right_paper(TWICE, 5))]
+        self.same(got, [True, True, False])
+        self.refused(InvalidPaper, {"word": "fall", "at": (0, 1)}, lets_right, TWICE, 5, paper)
+
+    def test_profiles(self):
+        got = [profile(COUNT), critical_charges(COUNT), critical_charges(TWICE)]
+        self.same(got, [(2, (((2,), True, "endless"),)), (3,), (6,)])
+        self.same(profile(TWICE), (5, (((0,), False, 5), ((1,), True, "endless"), ((2,), False, 5), ((3,), False, 5))))
+        got = [Profile(TWICE)[5], Profile(TWICE)[6], Profile(TWICE)((2,)), Profile(TWICE).least, (2,) in Profile(COUNT)]
+        self.same(got, [(((0,), (1,), (2,), (3,)), True), (((1,),), False), (False, 5), 6, True])
+
+    def test_markings_and_savings(self):
+        got = [doing_sets(LATE, 6), doing_sets(LATE, 7), least_sets(LATE, 7), lets_marks(LATE, 7, marks_paper(LATE, 7))]
+        self.same(got, [((),), ((), (1,)), ((),), ((), (1,))])
+        self.same([saving_sets(KEEP, 5, 0), saving_sets(KEEP, 5, 1), saving_sets(KEEP, 7, 0)], [(("x",),), (), ((), ("x",))])
