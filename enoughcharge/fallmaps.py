@@ -6,8 +6,12 @@ from enoughcharge.programparts import cost_at
 from enoughcharge.ways import labels_back, shortest_from, ways_from
 
 
+# The node of where a live machine stands: its moment may be a waking, too, but with something spent there.
+NOW = "now"
+
+
 class FallMap:
-    """All wakings that can come with a charge.
+    """All wakings that can come with a charge, behind a first node: the first moment, or NOW.
 
     A fall is a triple (waking, moment, width): it comes at the moment, behind steps from the waking, and its width is
     the greatest one of all falls from this waking to the same next one.
@@ -24,23 +28,35 @@ class FallMap:
 def fall_map(program, charge):
     """The FallMap of a program with a charge."""
     first = first_moment(program)
+    return fall_map_behind(program, charge, (first, first, charge))
+
+
+def fall_map_now(program, charge, moment, spent):
+    """The FallMap of all that can come behind a moment at which so much is spent."""
+    return fall_map_behind(program, charge, (NOW, moment, charge - spent))
+
+
+def fall_map_behind(program, charge, first):
+    """The FallMap behind a triple: the first node, the moment at which it is, and the least width of the falls that
+    can come behind it, what is spent there already not counted.
+    """
     roads = {}
     fallen = {}
     falls = {}
     line = [first]
     while line:
-        waking = line.pop()
-        if waking not in falls:
-            fresh = [waking]
+        node, begin, least = line.pop()
+        if node not in falls:
+            fresh = [begin]
             while fresh:
                 moment = fresh.pop()
                 if moment not in roads:
                     roads[moment] = steps_on(program, moment)
                     fallen[moment] = fall_at(program, moment)
                     fresh.extend([leg[1] for leg in roads[moment]])
-            falls[waking] = falls_on(fallen, ways_from(roads, waking), charge)
-            line.extend([leg[1] for leg in falls[waking]])
-    return FallMap(first, roads, falls)
+            falls[node] = falls_on(fallen, ways_from(roads, begin), least)
+            line.extend([(leg[1], leg[1], charge) for leg in falls[node]])
+    return FallMap(first[0], roads, falls)
 
 
 def steps_on(program, moment):

@@ -54,7 +54,7 @@ def values_read(forms, words, line, field):
 
 def word_read(form, word, ahead):
     """The value of this form that a word writes behind the values ahead; None if it cannot stand there."""
-    if form == "cell":
+    if form in ("cell", "name"):
         return word if is_name(word) else None
     if form == "kind":
         return word if word in KINDS else None
@@ -66,6 +66,8 @@ def word_read(form, word, ahead):
     if form == "test":
         tree = tree_read(word, MOST_OPEN)
         return tree if is_test(tree) else None
+    if form == "step":
+        return step_read(word, "-")
     number = number_read(word)
     if form == "cost" and not is_cost(number):
         return None
@@ -81,6 +83,14 @@ def number_read(word):
     if word[0] == "0" and len(word) > 1:
         return None
     return int(word)
+
+
+def step_read(word, empty):
+    """The step that a word writes, () being written as the empty word given; None if it writes none."""
+    if word == empty:
+        return ()
+    number = number_read(word)
+    return None if number is None else (number,)
 
 
 def names_read(word):

@@ -16,6 +16,11 @@ def number_text(number):
     return "".join(blocks[::-1])
 
 
+def step_text(step, empty):
+    """A step as its value, () as the empty word given."""
+    return empty if step == () else number_text(step[0])
+
+
 def expression_text(expression):
     """The one word that writes an expression or a test."""
     if isinstance(expression, str):

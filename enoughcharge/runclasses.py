@@ -2,8 +2,8 @@
 
 from enoughcharge.errors import InvalidText, NotUsable
 from enoughcharge.kinds import is_number, is_stretch
-from enoughcharge.programreadings import number_read
-from enoughcharge.programtexts import number_text
+from enoughcharge.programreadings import step_read
+from enoughcharge.programtexts import step_text
 from enoughcharge.runs import is_run, moment_after, spent_after, width_of
 from enoughcharge.widths import Width
 
@@ -78,6 +78,8 @@ class Run:
     @classmethod
     def read(cls, program, text):
         """The Run of the program that a string writes."""
+        if not isinstance(text, str):
+            raise NotUsable("text", -1)
         return cls(program, stretches_read(text))
 
 
@@ -91,7 +93,7 @@ def stretch_text(stretch):
     """The words of the steps of a stretch, - without any."""
     if len(stretch) == 0:
         return "-"
-    return " ".join(["." if step == () else number_text(step[0]) for step in stretch])
+    return " ".join([step_text(step, ".") for step in stretch])
 
 
 def stretches_read(text):
@@ -107,18 +109,10 @@ def stretches_read(text):
         elif word == "-" and stretch is None:
             stretch = ()
         else:
-            step = step_read(word)
+            step = step_read(word, ".")
             if step is None or stretch == ():
                 raise InvalidText(0, at)
             stretch = (stretch or ()) + (step,)
     if stretch is None:
         raise InvalidText(0, len(words))
     return tuple(stretches) + (stretch,)
-
-
-def step_read(word):
-    """The step that a word writes, None if it writes none."""
-    if word == ".":
-        return ()
-    number = number_read(word)
-    return None if number is None else (number,)

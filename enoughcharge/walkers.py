@@ -1,20 +1,10 @@
 """Runs that are led by hand."""
 
 from enoughcharge.errors import NothingToUndo, NotUsable
-from enoughcharge.moments import allows, first_moment, stepped, woken
+from enoughcharge.moments import allows
 from enoughcharge.programparts import cost_at
-from enoughcharge.runs import is_run, legs_along, width_of
-from enoughcharge.widths import Width
-
-
-class Stand:
-    """Where a run has come to; it never changes."""
-
-    def __init__(self, stretches, moment, spent, width):
-        self.stretches = stretches
-        self.moment = moment
-        self.spent = spent
-        self.width = width
+from enoughcharge.runs import is_run
+from enoughcharge.stands import first_stand, stand_after, stand_on
 
 
 class Kept:
@@ -30,7 +20,7 @@ class Walker:
 
     def __init__(self, program):
         self._program = program
-        self._stand = Stand(((),), first_moment(program), 0, Width())
+        self._stand = first_stand(program)
         self._kept = None
 
     @property
@@ -127,18 +117,3 @@ class Walker:
         """Do a move that is possible, and return the moment after it."""
         self._stand = stand_on(self._program, self._stand, move)
         return self._stand.moment
-
-
-def stand_on(program, stand, move):
-    """The Stand after a move that is possible."""
-    made, moment = stand.stretches, stand.moment
-    spent = stand.spent + cost_at(program, moment[1])
-    if move == "fall":
-        return Stand(made + ((),), woken(program, moment), 0, stand.width & Width(spent - 1))
-    return Stand(made[:-1] + (made[-1] + (move,),), stepped(program, moment, move), spent, stand.width)
-
-
-def stand_after(program, made):
-    """The Stand after a run."""
-    _, moment, spent = legs_along(program, made)[-1]
-    return Stand(made, moment, spent, Width(width_of(program, made)))

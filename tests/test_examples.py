@@ -1,9 +1,13 @@
 """The examples of the document, as they stand."""
 
 from enoughcharge.answers import answer_width, answers_at, least_right, right_answers, run_to
-from enoughcharge.errors import InvalidPaper, InvalidText
+from enoughcharge.desk import Desk
+from enoughcharge.errors import InvalidEvent, InvalidPaper, InvalidText
+from enoughcharge.eventreadings import read_event
+from enoughcharge.likeness import are_alike, are_alike_always, parting_charges
 from enoughcharge.loopchecker import lets_no_loop
 from enoughcharge.loops import has_own_loop, order_paper, own_loop
+from enoughcharge.machines import Machine
 from enoughcharge.markingchecker import lets_marks
 from enoughcharge.markings import doing_sets, least_sets, marks_paper
 from enoughcharge.moments import answer_of, first_moment, moment_after_step, steps_for, waking_of
@@ -12,6 +16,7 @@ from enoughcharge.onchecker import lets_on
 from enoughcharge.onpapers import on_paper
 from enoughcharge.profileclasses import Profile
 from enoughcharge.profiles import critical_charges, profile
+from enoughcharge.programchanges import with_marks
 from enoughcharge.programclasses import Dearer, Program, Unmarked
 from enoughcharge.programreadings import instruction_read, program_read
 from enoughcharge.pumped import lets_pumped, pumped_out
@@ -131,3 +136,31 @@ class ExampleTest(Checks):
         got = [doing_sets(LATE, 6), doing_sets(LATE, 7), least_sets(LATE, 7), lets_marks(LATE, 7, marks_paper(LATE, 7))]
         self.same(got, [((),), ((), (1,)), ((),), ((), (1,))])
         self.same([saving_sets(KEEP, 5, 0), saving_sets(KEEP, 5, 1), saving_sets(KEEP, 7, 0)], [(("x",),), (), ((), ("x",))])
+
+    def test_likeness(self):
+        off = with_marks(LATE, ())
+        got = [parting_charges(LATE, off), are_alike(LATE, off, 5), are_alike(LATE, off, 7), are_alike_always(LATE, off)]
+        self.same(got, [(6,), True, True, False])
+
+    def test_machines(self):
+        machine = Machine(TWICE, 5)
+        got = [machine.falls_left, machine.answers_left, machine.wrong_left, machine.step(), machine.can_fall, machine.width_here, machine.fall()]
+        self.same(got, [None, ((0,), (1,), (2,), (3,)), ((0,), (2,), (3,)), 1, True, 5, 5])
+        got = [machine.set_charge(6), machine.falls_left, machine.answers_left, machine["x"], machine.run_now]
+        self.same(got, [None, 0, ((2,),), 1, (((),), ())])
+        self.refused(InvalidEvent, {"event": ("fall",), "reason": "charge"}, machine.fall)
+        machine = Machine(LATE, 6)
+        got = [machine.put_off(1), machine.step(), machine.table(), machine.step(), machine.spent_now, machine.steps_now]
+        self.same(got, [None, 6, ["s        saved   1   0"], 0, 6, ()])
+        got = [machine.note("done"), machine.answers_left, machine.moment_at("done"), machine.barred(("on", 1)), len(machine)]
+        self.same(got, [None, ((1,),), ((0, (0,)), 2, (1,)), "fresh", 4])
+
+    def test_eventreadings(self):
+        self.same([read_event("step -"), read_event("step 2"), read_event("fall")], [("step", ()), ("step", (2,)), ("fall",)])
+        self.refused(InvalidText, {"line": 0, "field": 1}, read_event, "off 07")
+
+    def test_desk(self):
+        desk = Desk()
+        got = [desk.say("machine 6 5\ncell s saved 1 0\ntold s\nset s 1 6\nmark 1\nend"), desk.say("left"), desk.say("off 1"), desk.say("left")]
+        self.same(got, ["ok", "-", "-", "0"])
+        self.same([desk.say("steps"), desk.say("step -"), desk.say("answers"), desk.say("wrong"), desk.say("log")], ["-", "6", "(1)", "-", "off 1 / step -"])
