@@ -52,7 +52,7 @@ def event_in(row):
         return None
 
 
-def told(thing):
+def or_dash(thing):
     """A number, or - for None."""
     return "-" if thing is None else number_text(thing)
 
@@ -90,22 +90,22 @@ def log_told(machine):
 
 def charge_told(machine):
     """The charge."""
-    return told(machine.charge_now)
+    return or_dash(machine.charge_now)
 
 
 def spent_told(machine):
     """What is spent."""
-    return told(machine.spent_now)
+    return or_dash(machine.spent_now)
 
 
 def width_told(machine):
     """The width of a fall here."""
-    return told(machine.width_here)
+    return or_dash(machine.width_here)
 
 
 def left_told(machine):
     """The greatest number of further falls."""
-    return told(machine.falls_left)
+    return or_dash(machine.falls_left)
 
 
 def can_told(machine):
@@ -115,7 +115,7 @@ def can_told(machine):
 
 def place_told(machine):
     """The place."""
-    return told(machine.moment_now[1])
+    return or_dash(machine.moment_now[1])
 
 
 def steps_told(machine):
@@ -178,7 +178,7 @@ def answer_to_row(machine, row):
     """The answer of a machine to a row that makes no new one."""
     event = event_in(row)
     if event is not None:
-        return told(machine.go(event))
+        return or_dash(machine.go(event))
     if row in ROWS:
         action = ROWS[row]
         return action(machine)
@@ -186,9 +186,9 @@ def answer_to_row(machine, row):
     if word == "bars":
         return barred_told(machine, row, event_in(rest))
     if word == "cell" and is_name(rest):
-        return told(machine[rest])
+        return or_dash(machine[rest])
     if word == "since" and is_name(rest):
-        return told(machine.falls_since(rest))
+        return or_dash(machine.falls_since(rest))
     raise InvalidRow(row)
 
 

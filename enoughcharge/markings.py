@@ -27,7 +27,6 @@ def lies_in(other, places):
 
 def marks_paper(program, charge):
     """The tuple of the triples of a set of marks, and of the papers of falls and of answers with these marks."""
-    check_charge(charge)
     return tuple([papers_of(program, places, charge) for places in sets_of(marks_of(program))])
 
 

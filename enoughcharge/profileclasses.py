@@ -73,5 +73,5 @@ def row_of(told, thing):
 def is_part(told, other):
     """Whether all that can come with each charge by a profile can come by the other one."""
     widths = {answer: width for answer, _, width in other[1]}
-    answers_come = all([is_within(width, widths.get(answer, None)) for answer, _, width in told[1]])
+    answers_come = all([is_within(width, widths.get(answer)) for answer, _, width in told[1]])
     return answers_come and is_within(told[0], other[0])

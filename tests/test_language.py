@@ -34,6 +34,7 @@ STATEMENTS = (
     ast.Assert, ast.ImportFrom, ast.Expr, ast.Pass, ast.Break, ast.Continue, ast.Delete, ast.Nonlocal,
 )
 AT_ONCE = ("list", "tuple", "dict", "sorted", "sum", "any", "all", "enumerate", "zip", "min", "max")
+CHANGES = ("append", "clear", "extend", "insert", "pop", "remove", "reverse", "setdefault", "update", "sort")
 LAZY = ("zip", "enumerate", "reversed", "range")
 PLAIN_NUMBERS = ("len", "int", "str", "repr", "ord", "range", "set")
 
@@ -74,6 +75,40 @@ def bound_names(tree):
         elif isinstance(node, ast.ExceptHandler) and node.name:
             names.add(node.name)
     return names
+
+
+def created_names(function):
+    """The local names that a function assigns only lists and dicts which it creates itself."""
+    kinds = {}
+    for node in ast.walk(function):
+        if isinstance(node, ast.Assign):
+            made = isinstance(node.value, (ast.List, ast.Dict, ast.ListComp)) or called(node.value) in ("list", "dict", "sorted")
+            for target in node.targets:
+                if isinstance(target, ast.Name):
+                    kinds.setdefault(target.id, set()).add(made)
+    return [name for name in kinds if kinds[name] == {True}]
+
+
+def asked_functions():
+    """All functions that are run where a property is read or an operator is used, with the paths of their files."""
+    known = {}
+    for path, node in nodes(ast.FunctionDef):
+        known.setdefault(node.name, []).append((path, node))
+    changing = ("__init__", "__enter__", "__exit__", "__iadd__", "__call__")
+    line = []
+    for path, node in nodes(ast.FunctionDef):
+        is_property = "property" in [ast.unparse(mark) for mark in node.decorator_list]
+        if is_property or (node.name.startswith("__") and node.name not in changing):
+            line.append((path, node))
+    found = []
+    while line:
+        pair = line.pop()
+        if pair not in found:
+            found.append(pair)
+            for call in [part for part in ast.walk(pair[1]) if isinstance(part, ast.Call)]:
+                name = call.func.attr if isinstance(call.func, ast.Attribute) else called(call)
+                line.extend(known.get(name, []))
+    return found
 
 
 def top_names(tree):
@@ -201,6 +236,17 @@ class LanguageTest(unittest.TestCase):
                 self.check(part in plain, path, part, "L23")
             for part in ast.walk(node):
                 self.check(not yields or not isinstance(part, (ast.Try, ast.With)), path, part, "L23")
+
+    def test_what_is_asked_changes_nothing(self):
+        for path, function in asked_functions():
+            own = created_names(function)
+            for node in ast.walk(function):
+                if isinstance(node, ast.Attribute):
+                    self.check(isinstance(node.ctx, ast.Load), path, node, "L5")
+                    if node.attr in CHANGES and not isinstance(node.value, ast.Constant):
+                        self.check(isinstance(node.value, ast.Name) and node.value.id in own, path, node, "L5")
+                if isinstance(node, ast.Subscript) and isinstance(node.ctx, (ast.Store, ast.Del)):
+                    self.check(isinstance(node.value, ast.Name) and node.value.id in own, path, node, "L5")
 
     def test_methods_of_builtin_values(self):
         own = {node.name for _, node in nodes(ast.FunctionDef)}

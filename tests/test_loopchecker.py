@@ -77,6 +77,12 @@ class LetsNoLoopTest(CheckerChecks):
         self.bad("step", (2, 0), ROWS[:2] + ((TWO, ((TWO, 0, 1), (((0, ()), 3, (2,)), 0, 0))),))
         self.bad("step", (0, 0), ((((0, ()), 0, (0,)), ((((0, ()), 0, (0,)), 0, 3), (((0, ()), 1, (0,)), 1, 2))),), 4, ASKED)
 
+    def test_a_moment_that_is_missing_with_a_charge_of_0(self):
+        ahead, behind = ((0, ()), 0, ()), ((0, ()), 1, ())
+        program = ((), (("off", 9), ("end",)), ())
+        self.told(program, 0, ((ahead, ((ahead, 0, 1), (behind, 0, 0))),))
+        self.bad("step", (0, 0), ((ahead, ((ahead, 0, 1),)),), 0, program)
+
     def test_falls(self):
         self.bad("fall", (0, 2), ROWS[:2])
         self.bad("fall", (0, 1), ROWS[:1] + ROWS[2:])

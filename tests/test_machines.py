@@ -234,6 +234,8 @@ class EventTest(MachineChecks):
         for thing in NEITHER + ("g", "aa", "note", ("a",), 0, b"a"):
             self.raises(NotUsable, {"word": "name", "at": -1}, machine.moment_at, thing)
             self.raises(NotUsable, {"word": "name", "at": -1}, machine.falls_since, thing)
+        # A note may be called like an event, and answers nothing either.
+        self.same([machine.note("fall"), machine.note("step"), machine.undo(), machine.undo()], [None, None, ("note", "step"), ("note", "fall")])
         # The name of a cell is free for a note, and a note is taken back like anything.
         self.same([machine.note("longname"), machine.falls_since("longname"), machine.undo()], [None, 0, ("note", "longname")])
         self.raises(NotUsable, {"word": "name", "at": -1}, machine.moment_at, "longname")

@@ -140,6 +140,12 @@ class NumbersTest(CheckerChecks):
         # At least the charge is enough, too, but not a number below it.
         self.bad("step", (0, 5), with_table(ROWS, 0, with_changed(table, 1, (ONE, 3))))
 
+    def test_a_moment_that_is_missing_with_a_charge_of_0(self):
+        ahead, behind = ((0, ()), 0, ()), ((0, ()), 1, ())
+        program = ((), (("off", 9), ("end",)), ())
+        self.told(True, program, 0, ("numbers", ((ahead, 0, ((ahead, 0), (behind, 0))),)))
+        self.invalid("step", (0, 0), program, 0, ("numbers", ((ahead, 0, ((ahead, 0),)),)))
+
     def test_falls(self):
         self.bad("fall", (0, 2), ROWS[:2])
         self.bad("fall", (1, 1), (ROWS[0], (ONE, 0, ROWS[1][2]), ROWS[2]))

@@ -175,6 +175,12 @@ class RightTest(CheckerChecks):
         for at in range(1, len(first)):
             self.first_fault("step", ASKED, 9, (word, ((rows[0][0], first[:at] + first[at + 1:]),) + rows[1:], shown))
 
+    def test_a_moment_that_is_missing_with_a_charge_of_0(self):
+        ahead, behind = (BACK, 0, ()), (BACK, 1, ())
+        program = ((), (("off", 9), ("end",)), ())
+        self.told(True, program, 0, ("right", ((ahead, ((ahead, 0), (behind, 0))),), (((), ((),)),)))
+        self.bad("step", (0, 0), ("right", ((ahead, ((ahead, 0),)),), (((), ((),)),)), program, 0)
+
     def test_falls(self):
         self.bad("fall", (0, 1), RIGHT, charge=5)
         self.bad("fall", (0, 1), RIGHT, charge=0)

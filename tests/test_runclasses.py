@@ -181,6 +181,12 @@ class TextTest(RunChecks):
                 self.unread(field, ahead + word + " | 01")
         self.same(Run.read(ASKS, "9" * 60).made, (((SIXTY,),),))
 
+    def test_what_is_no_string(self):
+        for thing in ANYTHING:
+            if not isinstance(thing, str):
+                self.refused(NotUsable, {"word": "text", "at": -1}, Run.read, COUNT, thing)
+                self.refused(NotUsable, {"word": "text", "at": -1}, Run.read, text=thing, program=NOTHING)
+
     def test_bars_and_empty_stretches(self):
         for field, text in ((0, "|"), (0, "| ."), (0, ""), (0, " "), (1, "- -"), (1, "- ."), (1, "- 0"), (1, ". -"), (2, ". | |"), (2, "- | | -"),
                             (1, ".  ."), (1, ". "), (0, " ."), (1, "- "), (3, ". | - ."), (3, "1 2 . -"), (4, "- | 1 . -")):
